@@ -1,0 +1,1 @@
+"""Likepanes: squares cut into panes that are all alike in shape."""

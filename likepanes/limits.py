@@ -1,0 +1,9 @@
+"""The limits of the program."""
+
+MOST_DEGREE = 5
+MOST_TERM = 1000
+MOST_PANES = 500
+MOST_LEAVES = 12
+MOST_FEW = 5
+MOST_SHAPES = 4
+MOST_SCALE = 10 ** 40

@@ -33,11 +33,6 @@ def is_term(value):
     return is_integer(value) and -MOST_TERM <= value <= MOST_TERM
 
 
-def is_equation(value):
-    """Whether a value, any one, is an equation."""
-    return isinstance(value, tuple) and len(value) >= 2 and wrong_term(value) is None
-
-
 def wrong_term(equation):
     """The index of the first term, in a tuple of two or more, that an equation cannot have there, None if none."""
     for at, term in enumerate(equation):

@@ -2,7 +2,7 @@
 
 from likepanes.errors import InvalidEquation, InvalidFraction, InvalidText, NoRoot, NotAShape, TooMany
 from likepanes.factors import factors_of, is_least
-from likepanes.kinds import is_below, is_equation, is_fraction, is_term, wrong_term
+from likepanes.kinds import is_below, is_fraction, is_term, wrong_term
 from likepanes.limits import MOST_TERM
 from likepanes.roots import FIRST_BITS, rank_of_last, refined, roots_in_all, roots_up_to
 from likepanes.roots import roots_within, stretch_of, sturm_chain
@@ -123,7 +123,7 @@ def told_by(text):
     if len(words) < 3 or words[0] != "root" or words[2] != "of":
         return None
     rank, equation = integer_of(words[1]), tuple([integer_of(word) for word in words[3:]])
-    if rank is None or not is_equation(equation) or not is_least(equation):
+    if rank is None or len(equation) < 2 or wrong_term(equation) is not None or not is_least(equation):
         return None
     chain = sturm_chain(equation)
     if not roots_up_to(chain, 0, 1) <= rank < roots_in_all(chain):

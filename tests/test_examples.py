@@ -1,6 +1,8 @@
-"""The examples of the document, as they stand there."""
+"""The examples of the document, as they stand there, and those of README.md."""
 
+import doctest
 import unittest
+from pathlib import Path
 
 from likepanes.numbers import floor_of, number_of, opposite, product, quotient, root, sign, total
 from likepanes.shapes import Shape, alike, less
@@ -32,6 +34,12 @@ class Examples(unittest.TestCase):
             ],
             [(1, 0, 1), (1, -2, 4), (2, 4, -1), (2, -7, 2), -1, 3414213, -35, (2, 3)],
         )
+
+    def test_readme(self):
+        readme = Path(__file__).resolve().parent.parent / "README.md"
+        failed, many = doctest.testfile(str(readme), module_relative=False)
+        self.assertEqual(failed, 0)
+        self.assertGreater(many, 5)
 
 
 if __name__ == "__main__":

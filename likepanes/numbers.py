@@ -66,10 +66,10 @@ def sign(shape, number):
     if trimmed(number[1:]) == ():
         return 0
     bits = FIRST_BITS
-    low, high = ends(shape, number, bits)
+    low, high = ends(number, shape.floor_at(bits), bits)
     while low <= 0 <= high:
         bits *= 2
-        low, high = ends(shape, number, bits)
+        low, high = ends(number, shape.floor_at(bits), bits)
     return 1 if low > 0 else -1
 
 
@@ -82,7 +82,7 @@ def floor_of(shape, number, scale):
     bits = FIRST_BITS
     # Both ends agree in the end: a number is an integer only without r, and then its ends are the same.
     while True:
-        low, high = ends(shape, number, bits)
+        low, high = ends(number, shape.floor_at(bits), bits)
         bottom = number[0] << (bits * (shape.degree - 1))
         least = low * scale // bottom
         if least == high * scale // bottom:
@@ -139,11 +139,12 @@ def reciprocal(equation, divisor):
     return right, other[0]
 
 
-def ends(shape, number, bits):
+def ends(number, near, bits):
     """Two integers between which the number lies, all times its divisor and 2 to the power of bits times the degree
-    less one: sums of what is least and of what is greatest while the shape lies between two neighbours.
+    less one: sums of what is least and of what is greatest while the shape, times 2 to the power of bits, lies
+    between near, its floor, and the integer above.
     """
-    near, bottom = shape.floor_at(bits), 1 << bits
+    bottom = 1 << bits
     plus = [max(term, 0) for term in number[1:]]
     minus = [max(-term, 0) for term in number[1:]]
     low = value_at(plus, near, bottom) - value_at(minus, near + 1, bottom)

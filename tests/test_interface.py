@@ -1,7 +1,7 @@
 import inspect
 import unittest
 
-from likepanes import errors, numbers, shapes
+from likepanes import cutting, errors, few, numbers, shapes, trees, writing
 
 FUNCTIONS = (
     (shapes, "less", ["one", "other"]),
@@ -14,6 +14,23 @@ FUNCTIONS = (
     (numbers, "opposite", ["shape", "number"]),
     (numbers, "sign", ["shape", "number"]),
     (numbers, "floor_of", ["shape", "number", "scale"]),
+    (writing, "written", ["shape"]),
+    (writing, "fills", ["shape"]),
+    (writing, "steps", ["shape"]),
+    (writing, "worth", ["shape", "fractions"]),
+    (cutting, "cut_square", ["shape"]),
+    (cutting, "panes_in", ["shape"]),
+    (cutting, "is_cutting", ["shape", "panes", "width", "height"]),
+    (cutting, "clash", ["shape", "panes"]),
+    (trees, "panes_of", ["tree"]),
+    (trees, "plain", ["tree"]),
+    (trees, "ratio", ["shape", "tree"]),
+    (trees, "laid", ["shape", "tree"]),
+    (trees, "shapes_of", ["tree"]),
+    (trees, "tree_of", ["shape", "panes", "width", "height"]),
+    (few, "fillings", ["shape", "panes"]),
+    (few, "fewest", ["shape"]),
+    (few, "shapes_with", ["panes"]),
 )
 
 

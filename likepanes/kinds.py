@@ -1,8 +1,10 @@
-"""What counts as an integer, a fraction, an equation."""
+"""What counts as an integer, an index, a name, a fraction, an equation."""
 
 from math import gcd
 
 from likepanes.limits import MOST_DEGREE, MOST_TERM
+
+MOST_LETTERS = 8
 
 
 def is_integer(value):
@@ -13,6 +15,18 @@ def is_integer(value):
 def are_integers(values):
     """Whether all of a tuple are integers."""
     return all([is_integer(value) for value in values])
+
+
+def is_index(row, value):
+    """Whether a value, any one, is an index of an element of a tuple."""
+    return is_integer(value) and 0 <= value < len(row)
+
+
+def is_name(value):
+    """Whether a value, any one, is a name: one to eight letters from a to z."""
+    if not isinstance(value, str) or len(value) > MOST_LETTERS:
+        return False
+    return value.isascii() and value.isalpha() and value.islower()
 
 
 def is_fraction(value):

@@ -15,10 +15,20 @@ CLOSING = {"[": "]", "(": ")"}
 
 def checked(tree):
     """The node of a tree, InvalidTree if a value, any one, is none."""
-    node = node_of(tree) if isinstance(tree, str) and leaves_in(tree) <= MOST_LEAVES else None
+    node = told_node(tree)
     if node is None:
         raise InvalidTree(tree)
     return node
+
+
+def is_tree(value):
+    """Whether a value, any one, is a tree."""
+    return told_node(value) is not None
+
+
+def told_node(value):
+    """The node of a value, any one, None if it is no tree."""
+    return node_of(value) if isinstance(value, str) and leaves_in(value) <= MOST_LEAVES else None
 
 
 def leaves_in(text):

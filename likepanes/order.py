@@ -1,6 +1,6 @@
 """Numbers of a shape by their order, so that edges of panes can be compared as integers."""
 
-from likepanes.numbers import ends
+from likepanes.numbers import ends, opposite, sign, total
 from likepanes.panes import edges_of
 from likepanes.roots import FIRST_BITS
 
@@ -16,12 +16,17 @@ def places_of(shape, numbers):
     """A dict that tells of each number which place it has among the different ones, in ascending order."""
     different = list({number: True for number in numbers})
     bits = FIRST_BITS
-    rows = sorted([stretch(shape, number, shape.floor_at(bits), bits) for number in different])
+    rows = sorted(stretches(shape, different, bits))
     while not are_parted(rows):
         bits *= 2
-        near = shape.floor_at(bits)
-        rows = sorted([stretch(shape, number, near, bits) for number in different])
+        rows = sorted(stretches(shape, different, bits))
     return {row[2]: place for place, row in enumerate(rows)}
+
+
+def stretches(shape, numbers, bits):
+    """The list of the stretches of numbers; they get shorter with more bits."""
+    near = shape.floor_at(bits)
+    return [stretch(shape, number, near, bits) for number in numbers]
 
 
 def stretch(shape, number, near, bits):
@@ -29,6 +34,13 @@ def stretch(shape, number, near, bits):
     low, high = ends(number, near, bits)
     bottom = number[0] << (bits * (shape.degree - 1))
     return (low << bits) // bottom, -((-high << bits) // bottom), number
+
+
+def comes_before(shape, one, other):
+    """Whether the number of the one stretch is less than that of the other one."""
+    if one[1] < other[0] or other[1] < one[0]:
+        return one[1] < other[0]
+    return sign(shape, total(shape, one[2], opposite(shape, other[2]))) < 0
 
 
 def are_parted(rows):

@@ -33,6 +33,11 @@ def size_of(shape, side, way):
     return (long, side) if way == LYING else (side, long)
 
 
+def area_of(shape, side):
+    """The area of a pane."""
+    return product(shape, root(shape), product(shape, side, side))
+
+
 def edges_of(shape, pane):
     """The left, lower, right and upper edge of a pane, as numbers."""
     x, y, side, way = pane

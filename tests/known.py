@@ -423,6 +423,16 @@ def told_shapes(degree, many, seed):
     return list(found.items())
 
 
+class Anything:
+    """What is equal to any value, but is none of those that are right."""
+
+    def __eq__(self, other):
+        return True
+
+    def __hash__(self):
+        return hash("l")
+
+
 class Raises:
     """For tests of errors, each asked by place and by name."""
 

@@ -4,9 +4,12 @@ import doctest
 import unittest
 from pathlib import Path
 
+from likepanes.benches import Bench
+from likepanes.checker import accepts
 from likepanes.cutting import clash, cut_square, is_cutting, panes_in
 from likepanes.few import fewest, fillings, shapes_with
 from likepanes.numbers import floor_of, number_of, opposite, product, quotient, root, sign, total
+from likepanes.papers import paper_of_likeness, paper_of_shape, paper_of_tree, paper_of_writing
 from likepanes.shapes import Shape, alike, less
 from likepanes.trees import laid, panes_of, plain, ratio, shapes_of, tree_of
 from likepanes.writing import fills, steps, worth, written
@@ -94,6 +97,34 @@ class Examples(unittest.TestCase):
                 ("root 0 of -1 1",), ("root 0 of -2 1",), ("root 0 of -3 2", "root 0 of -1 1 -2 1", "root 0 of -3 1"),
                 3, 2, None, ("(l l)", "[s s]"),
             ],
+        )
+
+    def test_benches(self):
+        bench = Bench(self.two)
+        done = [
+            bench.put((1, 0), (1, 0), (3, 2), "lying"), bench.left, bench.put((1, 0), (3, 2), (9, 2), "standing"),
+            bench.panes[1][2], bench.take(0), bench.undo(), bench.changes,
+        ]
+        self.assertEqual(
+            [done, bench.left, bench.is_full], [[None, (3, 1), None, (9, 2), None, None, 2], (27, 7), False],
+        )
+
+    def test_papers(self):
+        wide, slim, root_two = self.wide, self.slim, self.root_two
+        papers = [
+            paper_of_shape(wide), paper_of_shape(root_two), paper_of_writing(wide),
+            paper_of_tree(wide, "[(l l l l) (s s)]"), paper_of_likeness(wide, wide),
+        ]
+        self.assertEqual(
+            [papers[0][0], papers[1], papers[2][0][2], paper_of_tree(wide, "[l s]"), paper_of_likeness(wide, slim)],
+            [("fills", "root 1 of 2 -4 1"), (("never", "root 1 of -2 0 1"), None), ((1, 4), (2, 1)), None, None],
+        )
+        self.assertEqual(
+            [
+                accepts(papers[0][0], papers[0][1]), accepts(papers[1][0], None), accepts(papers[2][0], None),
+                accepts(papers[3][0], papers[3][1]), accepts(papers[4][0], None), accepts(papers[0][0], None),
+            ],
+            [True, True, True, True, True, False],
         )
 
     def test_readme(self):

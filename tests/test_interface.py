@@ -1,7 +1,7 @@
 import inspect
 import unittest
 
-from likepanes import cutting, errors, few, numbers, shapes, trees, writing
+from likepanes import benches, checker, cutting, desks, errors, few, numbers, papers, shapes, trees, writing
 
 FUNCTIONS = (
     (shapes, "less", ["one", "other"]),
@@ -31,7 +31,29 @@ FUNCTIONS = (
     (few, "fillings", ["shape", "panes"]),
     (few, "fewest", ["shape"]),
     (few, "shapes_with", ["panes"]),
+    (checker, "accepts", ["claim", "paper"]),
+    (papers, "paper_of_shape", ["shape"]),
+    (papers, "paper_of_writing", ["shape"]),
+    (papers, "paper_of_tree", ["shape", "tree"]),
+    (papers, "paper_of_likeness", ["one", "other"]),
 )
+
+# The parameters of each method beside the object itself.
+METHODS = (
+    (benches.Bench, {
+        "__init__": ["shape"], "put": ["x", "y", "side", "way"], "take": ["index"], "undo": [], "trial": [],
+        "tried": ["action"],
+    }),
+    (desks.Desk, {
+        "__init__": [], "remove": ["name"], "claim": ["claim"], "lift": ["index"], "undo": [], "trial": [],
+        "tried": ["action"],
+    }),
+)
+PROPERTIES = (
+    (benches.Bench, ("shape", "panes", "left", "is_full", "changes")),
+    (desks.Desk, ("titles", "claims", "changes")),
+)
+OPERATORS = ("__getitem__", "__setitem__", "__contains__", "__len__", "__bool__")
 
 
 class Interface(unittest.TestCase):
@@ -51,6 +73,19 @@ class Interface(unittest.TestCase):
             self.assertIsInstance(vars(shapes.Shape)[title], property)
         self.assert_parameters(shapes.Shape, ["text"])
         self.assert_parameters(shapes.Shape.of, ["equation", "low", "high"])
+
+    def test_benches_and_desks_have_all_that_is_listed_in_their_own_bodies(self):
+        self.assertEqual(benches.Bench.__module__, "likepanes.benches")
+        self.assertEqual(desks.Desk.__module__, "likepanes.desks")
+        for owner, methods in METHODS:
+            for title, names in methods.items():
+                self.assertTrue(inspect.isfunction(vars(owner)[title]))
+                self.assert_parameters(vars(owner)[title], ["self", *names])
+        for owner, titles in PROPERTIES:
+            for title in titles:
+                self.assertIsInstance(vars(owner)[title], property)
+        for title in OPERATORS:
+            self.assertIn(title, vars(desks.Desk))
 
     def test_errors_take_their_attributes_in_the_order_told(self):
         for title, names in (
